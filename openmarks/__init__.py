@@ -1,0 +1,1 @@
+"""Openmarks: how many bookmarks a path query needs on a streamed document."""

@@ -1,0 +1,1 @@
+"""Labels, words, tags and streams."""
