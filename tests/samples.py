@@ -1,7 +1,12 @@
 """Values that several tests use."""
 
+from itertools import product
+
 from openmarks.base.labels import make_labels
+from openmarks.documents.documents import Document
 from openmarks.errors import InvalidLabels, InvalidNumber
+from openmarks.queries.colouring import Reader
+from openmarks.queries.patterns import Path
 
 AB = make_labels("a", "b")
 FOUR = ("a", "b", "c", "d")
@@ -45,16 +50,17 @@ def stored(error, attribute):
 
 def check_raises(test, wanted, call, *values, **more):
     """Check that the call raises an error of this class alone, and return the error."""
-    with test.assertRaises(wanted, msg=(call.__name__, values, more)) as caught:
+    told = (getattr(call, "__name__", "object"), values, more)
+    with test.assertRaises(wanted, msg=told) as caught:
         call(*values, **more)
-    test.assertIs(type(caught.exception), wanted, (call.__name__, values, more))
+    test.assertIs(type(caught.exception), wanted, told)
     return caught.exception
 
 
 def check_keeps(test, wanted, attribute, value, call, *values, **more):
     """Check as check_raises, and that the error keeps the value."""
     error = check_raises(test, wanted, call, *values, **more)
-    test.assertEqual(stored(error, attribute), (type(value), value), (call.__name__, values, more))
+    test.assertEqual(stored(error, attribute), (type(value), value), (values, more))
 
 
 def first_of(generator):
@@ -71,3 +77,84 @@ def check_same(test, found, wanted):
         both = zip(found, wanted)
         at = next((k for k, (x, y) in enumerate(both) if x != y), min(len(found), len(wanted)))
         test.fail(f"lengths {len(found)} and {len(wanted)}, unlike from {at} on")
+
+
+CHILD = (AB, (0, 0), ((1, 1), (2, 2), (2, 2)), ("no", "yes", "no"))
+BELOW = (AB, (0, 1), ((2, 2), (0, 1), (2, 2)), ("no", "no", "yes"))
+EVEN = (AB, (0, 1), ((1, 0), (0, 1)), ("odd", "even"))
+UNDER = (AB, (0, 1), ((2, 3), (0, 1), (2, 3), (0, 1)), ("no", "no", "yes", "yes"))
+SAMPLES = (CHILD, BELOW, EVEN, UNDER)
+TREE = Document.read("b(a(b b) b)")
+# Values with objects of the package that have no place in a dict.
+OBJECTS = (TREE, Path("/a"), ~Path("//a"), Reader(CHILD), (TREE,), [Path("//b")], {"a": TREE}, ("a", TREE))
+WRONG = WRONG_ANYWHERE + BOOLEANS + OBJECTS
+# None of them is an integer from 0 on.
+NOT_NUMBERS = tuple(v for v in WRONG if isinstance(v, bool) or not isinstance(v, int) or v < 0)
+
+
+def with_part(value, part, k):
+    """The tuple with another part at one place."""
+    return value[:k] + (part,) + value[k + 1:]
+
+
+def broken(value, parts, depth=3):
+    """The tuple with each part at each depth replaced by each of the other values."""
+    for k in range(len(value)):
+        for part in parts:
+            if part != value[k]:
+                yield with_part(value, part, k)
+        yield value[:k] + value[k + 1:]
+        yield with_part(value, [value[k]], k)
+        if depth and isinstance(value[k], tuple):
+            for inner in broken(value[k], parts, depth - 1):
+                yield with_part(value, inner, k)
+
+
+def as_lists(value):
+    return [as_lists(part) for part in value] if isinstance(value, tuple) else value
+
+
+def make_not_queries():
+    found = [v for v in WRONG if v != BELOW] + [as_lists(BELOW), BELOW[:3], BELOW + ((),)]
+    for value in broken(BELOW, (None, True, -1, 3, 10 ** 59, "", "A", "a" * 9, (), [], {}, TREE)):
+        found.append(value)
+    # A colour may be replaced by each label, a state by each smaller one.
+    many = tuple(("a", "b") for _ in range(41))
+    found.append((AB, (0, 0), ((0, 0),) * 41, ("no",) * 41))
+    found.append((AB, (0, 0), (), ()))
+    found.append((("b", "a"),) + BELOW[1:])
+    found.append((("a", "b", "c"),) + BELOW[1:])
+    found.append((AB, (0, True), ((0, 0), (0, 0)), ("x", "y")))
+    found.append((AB, (0, 0), ((0, False), (0, 0)), ("x", "y")))
+    found.append((AB, many, ((0, 0),), ("x",)))
+    return tuple(found)
+
+
+NOT_QUERIES = make_not_queries()
+NOT_DOCUMENTS = tuple(v for v in WRONG if not isinstance(v, Document)) + (str(TREE), TREE.tags)
+
+
+def all_paths(labels, longest):
+    """All paths of at most so many labels, by length, then ascending."""
+    return [word for many in range(1, longest + 1) for word in product(labels, repeat=many)]
+
+
+def plain_state(query, word, start=None):
+    """The state behind a word, by the definition."""
+    labels, roots, rows, _ = query
+    for label in word:
+        start = (roots if start is None else rows[start])[labels.index(label)]
+    return start
+
+
+def plain_colour(query, word):
+    return query[3][plain_state(query, word)]
+
+
+def random_query(source, states, labels, colours="xyz"):
+    """A query with at most so many states, many of them not reached or equal."""
+    many = source.randint(1, states)
+    used = source.randint(1, many)
+    row = lambda: tuple(source.randrange(used if source.random() < 0.8 else many) for _ in labels)
+    told = source.choice((colours[:1], colours[:2], colours))
+    return (labels, row(), tuple(row() for _ in range(many)), tuple(source.choice(told) for _ in range(many)))

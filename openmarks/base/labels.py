@@ -1,6 +1,6 @@
 """Labels, words of labels, and the tags that open and close their nodes."""
 
-from openmarks.base.checks import check_plain, is_integer
+from openmarks.base.checks import check_plain, is_ascending, is_integer
 from openmarks.errors import InvalidLabels, InvalidNumber, InvalidWord
 
 MAX_LETTERS = 8
@@ -13,7 +13,7 @@ def is_label(value):
     """Return whether the value is a string of one to eight letters a to z."""
     if not isinstance(value, str) or not 1 <= len(value) <= MAX_LETTERS:
         return False
-    return all(["a" <= letter <= "z" for letter in value])
+    return value.isascii() and value.isalpha() and value.islower()
 
 
 def are_labels(values):
@@ -25,7 +25,7 @@ def is_labels(value):
     """Return whether the value is an ascending tuple of one to four labels."""
     if not are_labels(value) or not 1 <= len(value) <= MAX_LABELS:
         return False
-    return all([value[k] < value[k + 1] for k in range(len(value) - 1)])
+    return is_ascending(value)
 
 
 def check_labels(labels):

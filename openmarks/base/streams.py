@@ -1,89 +1,162 @@
 """Streams of tags: what can stand in them, and which nodes they open and close."""
 
-from openmarks.base.checks import check_plain
+from openmarks.base.checks import check_plain, is_integer
 from openmarks.base.labels import check_labels, closing_tag, opening_tag
-from openmarks.errors import BadTag
+from openmarks.errors import BadTag, InvalidNumber, NothingToUndo
 
 MAX_NODES = 5000
 
 
+class Trail:
+    """A beginning that goes on tag by tag, and the nodes that its tags open and close.
+
+    seen has the tags, opened the opening tag of each node, parents the parent of each
+    node or None, closed the closed nodes in the order of their closings, and current
+    the current node or None. All lists grow and shrink at their ends only, so that
+    the work for a tag does not depend on what was read before.
+    """
+
+    def __init__(self, labels, plain):
+        self.closings = {opening_tag(label): closing_tag(label, plain) for label in labels}
+        self.seen = []
+        self.opened = []
+        self.parents = []
+        self.closed = []
+        self.current = None
+
+    def branch(self):
+        """Return an equal trail that goes its own way."""
+        other = Trail((), False)
+        other.closings = self.closings
+        other.seen = list(self.seen)
+        other.opened = list(self.opened)
+        other.parents = list(self.parents)
+        other.closed = list(self.closed)
+        other.current = self.current
+        return other
+
+    def take(self, tags):
+        """Read all the tags, or none and raise BadTag for the first that cannot stand there."""
+        before = len(self.seen)
+        if not isinstance(tags, tuple):
+            raise BadTag(before)
+        done = self.go_on(tags)
+        self.seen.extend(tags[:done])
+        if done < len(tags):
+            self.back(done)
+            raise BadTag(before + done)
+
+    def go_on(self, tags):
+        """Open and close nodes up to the first wrong tag, and return how many tags were right."""
+        closings, opened, parents, closed = self.closings, self.opened, self.parents, self.closed
+        node = self.current
+        done = 0
+        for tag in tags:
+            if node is not None and tag == closings[opened[node]]:
+                closed.append(node)
+                node = parents[node]
+            # Only strings are looked up, as other values may have no place in a dict.
+            elif isinstance(tag, str) and tag in closings and (
+                    len(opened) < MAX_NODES if node is not None else not opened):
+                parents.append(node)
+                node = len(opened)
+                opened.append(tag)
+            else:
+                break
+            done += 1
+        self.current = node
+        return done
+
+    def back(self, many):
+        """Take back the last tags, and return how many are left."""
+        if not is_integer(many) or many < 0:
+            raise InvalidNumber(many)
+        if many > len(self.seen):
+            raise NothingToUndo(many)
+        for _ in range(many):
+            if is_opening(self.seen.pop()):
+                self.opened.pop()
+                self.current = self.parents.pop()
+            else:
+                self.current = self.closed.pop()
+        return len(self.seen)
+
+    def is_whole(self):
+        """Return whether the tags are those of a whole document."""
+        return bool(self.opened) and self.current is None
+
+    def path(self):
+        """Return the path of the current node, or () if no node is open."""
+        return () if self.current is None else self.path_of(self.current)
+
+    def path_of(self, node):
+        """Return the path of a node that was opened."""
+        labels = []
+        while node is not None:
+            labels.append(self.opened[node][1:])
+            node = self.parents[node]
+        return tuple(labels[::-1])
+
+    def tags_next(self):
+        """Return all tags that can stand next, ascending."""
+        if self.current is None:
+            return () if self.opened else tuple(list(self.closings))
+        tags = list(self.closings) if len(self.opened) < MAX_NODES else []
+        return (*tags, self.closings[self.opened[self.current]])
+
+    def named_tags(self):
+        """Return the tags with named closings, whatever the closings that were read."""
+        tags = []
+        # The nodes are closed in their order, so that no stack of open ones is needed.
+        many = 0
+        for tag in self.seen:
+            if is_opening(tag):
+                tags.append(tag)
+            else:
+                tags.append("-" + self.opened[self.closed[many]][1:])
+                many += 1
+        return tuple(tags)
+
+
 def is_opening(tag):
     """Return whether the tag of a beginning opens a node."""
-    return tag.startswith("+")
+    return tag[0] == "+"
 
 
-def tags_behind(labels, path, many, plain):
-    """Return all tags that can stand behind a beginning, ascending.
-
-    The beginning has opened so many nodes, and path has the labels of those that
-    are still open.
-    """
-    if many > 0 and not path:
-        return ()
-    tags = []
-    if many < MAX_NODES:
-        tags = [opening_tag(label) for label in labels]
-    if path:
-        tags.append(closing_tag(path[-1], plain))
-    return tuple(tags)
-
-
-def read_beginning(labels, stream, plain):
-    """Return the path of the current node of a beginning, and how many nodes it opens.
-
-    The labels and the kind of closings were checked before.
-    """
-    if not isinstance(stream, tuple):
-        raise BadTag(0)
-    path = []
-    many = 0
-    for position, tag in enumerate(stream):
-        if tag not in tags_behind(labels, path, many, plain):
-            raise BadTag(position)
-        if is_opening(tag):
-            path.append(tag[1:])
-            many += 1
-        else:
-            path.pop()
-    return tuple(path), many
+def trail_of(labels, stream, plain):
+    """Return the trail of a beginning; the labels and the kind of closings were checked."""
+    trail = Trail(labels, plain)
+    trail.take(stream)
+    return trail
 
 
 def is_stream(labels, value, *, plain=False):
     """Return whether the value is the stream of a whole document with at most 5000 nodes."""
     check_labels(labels)
     check_plain(plain)
-    try:
-        path, many = read_beginning(labels, value, plain)
-    except BadTag:
-        return False
-    return many > 0 and path == ()
+    trail = Trail(labels, plain)
+    return isinstance(value, tuple) and trail.go_on(value) == len(value) and trail.is_whole()
 
 
 def is_beginning(labels, value, *, plain=False):
     """Return whether the value is a beginning."""
     check_labels(labels)
     check_plain(plain)
-    try:
-        read_beginning(labels, value, plain)
-    except BadTag:
-        return False
-    return True
+    return isinstance(value, tuple) and Trail(labels, plain).go_on(value) == len(value)
 
 
 def open_path(labels, stream, *, plain=False):
     """Return the path of the current node, or () if no node is open."""
     check_labels(labels)
     check_plain(plain)
-    path, _ = read_beginning(labels, stream, plain)
-    return path
+    return trail_of(labels, stream, plain).path()
 
 
 def next_tags(labels, stream, *, plain=False):
     """Return all tags that can stand next, ascending."""
     check_labels(labels)
     check_plain(plain)
-    path, many = read_beginning(labels, stream, plain)
-    return tags_behind(labels, path, many, plain)
+    return trail_of(labels, stream, plain).tags_next()
 
 
 def paths_on(labels, stream, *, plain=False):
@@ -91,7 +164,7 @@ def paths_on(labels, stream, *, plain=False):
     check_labels(labels)
     check_plain(plain)
     # The whole stream is checked first, so that no path comes ahead of an error.
-    read_beginning(labels, stream, plain)
+    trail_of(labels, stream, plain)
     path = []
     for tag in stream:
         if is_opening(tag):
@@ -105,35 +178,18 @@ def closing_order(labels, stream, *, plain=False):
     """Yield the numbers of the nodes that are closed, in the order of their closings."""
     check_labels(labels)
     check_plain(plain)
-    # As in paths_on, errors come ahead of all numbers.
-    read_beginning(labels, stream, plain)
-    nodes = []
-    many = 0
-    for tag in stream:
-        if is_opening(tag):
-            nodes.append(many)
-            many += 1
-        else:
-            yield nodes.pop()
+    trail = trail_of(labels, stream, plain)
+    yield from trail.closed
 
 
 def named_stream(labels, stream):
     """Return the beginning with named closings for one with plain closings."""
     check_labels(labels)
-    read_beginning(labels, stream, True)
-    path = []
-    tags = []
-    for tag in stream:
-        if is_opening(tag):
-            path.append(tag[1:])
-            tags.append(tag)
-        else:
-            tags.append(closing_tag(path.pop(), False))
-    return tuple(tags)
+    return trail_of(labels, stream, True).named_tags()
 
 
 def plain_stream(labels, stream):
     """Return the beginning with plain closings for one with named closings."""
     check_labels(labels)
-    read_beginning(labels, stream, False)
+    trail_of(labels, stream, False)
     return tuple([tag if is_opening(tag) else "-" for tag in stream])

@@ -1,0 +1,1 @@
+"""Documents as trees, and folded documents."""

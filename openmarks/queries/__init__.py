@@ -1,0 +1,1 @@
+"""Path queries, patterns of paths, and the colours of documents."""
