@@ -84,6 +84,9 @@ BELOW = (AB, (0, 1), ((2, 2), (0, 1), (2, 2)), ("no", "no", "yes"))
 EVEN = (AB, (0, 1), ((1, 0), (0, 1)), ("odd", "even"))
 UNDER = (AB, (0, 1), ((2, 3), (0, 1), (2, 3), (0, 1)), ("no", "no", "yes", "yes"))
 SAMPLES = (CHILD, BELOW, EVEN, UNDER)
+STAY = ((0, 0), (0, 0))
+LEAVE = ((0, 1), (0, 0))
+FIRST = (AB, False, 1, ((("no", 1, 1), ("no", 0, 0)), (("yes", 0, 1), ("yes", 0, 1))), ((STAY, STAY), (LEAVE, LEAVE)))
 TREE = Document.read("b(a(b b) b)")
 # Values with objects of the package that have no place in a dict.
 OBJECTS = (TREE, Path("/a"), ~Path("//a"), Reader(CHILD), (TREE,), [Path("//b")], {"a": TREE}, ("a", TREE))
@@ -101,7 +104,7 @@ def broken(value, parts, depth=3):
     """The tuple with each part at each depth replaced by each of the other values."""
     for k in range(len(value)):
         for part in parts:
-            if part != value[k]:
+            if part != value[k] or type(part) is not type(value[k]):
                 yield with_part(value, part, k)
         yield value[:k] + value[k + 1:]
         yield with_part(value, [value[k]], k)
@@ -158,3 +161,44 @@ def random_query(source, states, labels, colours="xyz"):
     row = lambda: tuple(source.randrange(used if source.random() < 0.8 else many) for _ in labels)
     told = source.choice((colours[:1], colours[:2], colours))
     return (labels, row(), tuple(row() for _ in range(many)), tuple(source.choice(told) for _ in range(many)))
+
+
+def near_query(source, states, labels, steps):
+    """A query most of whose states lead to states near them, with many rings and gaps."""
+    def after(state):
+        if source.random() < 0.2:
+            return source.randrange(states)
+        return min(states - 1, max(0, state + source.choice(steps)))
+    rows = tuple(tuple(after(state) for _ in labels) for state in range(states))
+    return (labels, tuple(after(0) for _ in labels), rows, tuple(source.choice("xy") for _ in range(states)))
+
+
+def random_machine(source, states, marks, plain, labels):
+    sets = range(1 << marks)
+    def pair():
+        return source.choice(sets) if source.random() < 0.7 else 0, source.randrange(states)
+    opens = tuple(tuple((source.choice("xy"),) + pair() for _ in labels) for _ in range(states))
+    closes = tuple(
+        tuple(tuple(pair() for _ in sets) for _ in (labels[:1] if plain else labels)) for _ in range(states))
+    return (labels, plain, marks, opens, closes)
+
+
+def make_not_machines():
+    found = [v for v in WRONG if v != FIRST] + [as_lists(FIRST), FIRST[:4], FIRST + ((),), BELOW]
+    for value in broken(FIRST, (None, 5, -1, 10 ** 59, "", "A", (), [], {}, TREE, True), 4):
+        # Closings, labels and numbers can be exchanged for right ones of another kind.
+        if value[1:2] != (True,) or value[2] != 1:
+            found.append(value)
+    found.append((AB, True) + FIRST[2:])
+    found.append((AB, False, True) + FIRST[3:])
+    found.append((AB, False, 4, FIRST[3], ((((0, 0),) * 16,) * 2,) * 2))
+    found.append((AB, False, 2) + FIRST[3:])
+    found.append((AB, False, 0) + FIRST[3:])
+    found.append((AB, 0) + FIRST[2:])
+    found.append((AB, False, 0, (), ()))
+    found.append((("a",), True, 0, ((("x", 0, 0),),) * 301, ((((0, 0),),),) * 301))
+    found.append(FIRST[:3] + (FIRST[3], FIRST[4][:1]))
+    return tuple(found)
+
+
+NOT_MACHINES = make_not_machines()

@@ -10,7 +10,7 @@ def is_integer(value):
 
 def is_index(value, many):
     """Return whether the value is one of the integers from 0 to many - 1."""
-    return isinstance(value, int) and not isinstance(value, bool) and 0 <= value < many
+    return type(value) is int and 0 <= value < many
 
 
 def check_index(value, many):

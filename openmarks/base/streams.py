@@ -97,6 +97,15 @@ class Trail:
             node = self.parents[node]
         return tuple(labels[::-1])
 
+    def node_above(self, height):
+        """Return the node that lies so many steps above the current one, or None for None."""
+        if height is None:
+            return None
+        node = self.current
+        for _ in range(height):
+            node = self.parents[node]
+        return node
+
     def tags_next(self):
         """Return all tags that can stand next, ascending."""
         if self.current is None:

@@ -1,0 +1,1 @@
+"""Gaps between states, and the number of bookmarks that they call for."""
