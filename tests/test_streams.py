@@ -225,6 +225,90 @@ class Edges(unittest.TestCase):
             self.assertIs(is_beginning(AB, wide + (close,), plain=plain), True)
 
 
+def deep_stream(many, plain):
+    """A whole document of so many nodes below one another, and what is known of it."""
+    word = (("a", "b") * 2501)[:many]
+    ups = tuple("-" if plain else "-" + label for label in word[::-1])
+    return tuple("+" + label for label in word) + ups, lambda k: word[:k + 1], list(range(many))[::-1]
+
+
+def wide_stream(many, plain):
+    """The same for nodes side by side below the root."""
+    child, end = (("+b", "-"), "-") if plain else (("+b", "-b"), "-a")
+    return ("+a",) + child * (many - 1) + (end,), lambda k: ("a", "b")[:k + 1], list(range(1, many)) + [0]
+
+
+class LongStreams(unittest.TestCase):
+    """All functions that take a beginning, for long streams of all forms."""
+
+    def forms(self, many):
+        for plain in BOOLEANS:
+            for make in (deep_stream, wide_stream):
+                yield make, plain, make(many, plain)
+
+    def test_whole(self):
+        for many in (4999, 5000):
+            for make, plain, (tags, path_of, order) in self.forms(many):
+                self.assertIs(is_stream(AB, tags, plain=plain), True)
+                for cut in (1, 2, 777, many - 1, many, many + 1, len(tags) - 2, len(tags) - 1, len(tags)):
+                    self.check_part(make, plain, tags, cut, path_of, order)
+
+    def check_part(self, make, plain, tags, cut, path_of, order):
+        part = tags[:cut]
+        opened = sum(tag[0] == "+" for tag in part)
+        self.assertIs(is_beginning(AB, part, plain=plain), True)
+        self.assertIs(is_stream(AB, part, plain=plain), cut == len(tags))
+        closed = list(closing_order(AB, part, plain=plain))
+        check_same(self, closed, order[:cut - opened])
+        left = opened - 1 if make is deep_stream else 0
+        if make is deep_stream:
+            left -= cut - opened
+        elif part[-1] == "+b":
+            left = opened - 1
+        path = () if cut == len(tags) else path_of(left)
+        check_same(self, open_path(AB, part, plain=plain), path)
+        can = ("+a", "+b") if path and opened < 5000 else ()
+        end = (("-" if plain else "-" + path[-1]),) if path else ()
+        self.assertEqual(next_tags(AB, part, plain=plain), can + end)
+        other = make(len(tags) // 2, not plain)[0][:cut]
+        check_same(self, (named_stream if plain else plain_stream)(AB, part), other)
+        if make is wide_stream or cut in (1, 777, len(tags)):
+            many = 0
+            for many, found in enumerate(paths_on(AB, part, plain=plain), 1):
+                self.assertTrue(found == path_of(many - 1))
+            self.assertEqual(many, opened)
+
+    def test_node_5001(self):
+        for make, plain, (tags, _, _) in self.forms(5001):
+            position = 5000 if make is deep_stream else 2 * 5000 - 1
+            for end in (position + 1, position + 2, len(tags)):
+                check_bad(self, position, AB, tags[:end], plain)
+            self.assertIs(is_beginning(AB, tags[:position], plain=plain), True)
+
+    def test_wrong_tags(self):
+        wrong = ("", "+c", "-c", "+", None, 7, True, ["+a"], {}, (), ("+a",), "--", "a")
+        for many in (4999, 5000):
+            for make, plain, (tags, _, _) in self.forms(many):
+                for k, position in enumerate((0, 1, 2, many // 2, many, 3 * many // 2, len(tags) - 1)):
+                    # A closing of the other kind, of another label, and behind the root stand nowhere.
+                    for value in (wrong[k], wrong[k + 6], "-" if not plain else "-a"):
+                        changed = tags[:position] + (value,) + tags[position + 1:]
+                        check_bad(self, position, AB, changed, plain)
+                check_bad(self, len(tags), AB, tags + ("+a",), plain)
+                check_bad(self, len(tags), AB, tags + tags[-1:], plain)
+                check_bad(self, len(tags), AB, tags + tags, plain)
+
+    def test_closings_of_other_labels(self):
+        tags = wide_stream(5000, False)[0]
+        for position in (2, 5000, 9998):
+            check_bad(self, position, AB, tags[:position] + ("-a",) + tags[position + 1:], False)
+        check_bad(self, 9999, AB, tags[:-1] + ("-b",), False)
+        tags = deep_stream(5000, False)[0]
+        for position in (5000, 7777, 9999):
+            other = "-a" if tags[position] == "-b" else "-b"
+            check_bad(self, position, AB, tags[:position] + (other,) + tags[position + 1:], False)
+
+
 class BadTags(unittest.TestCase):
     """[0.16]: the position of BadTag for each of its reasons."""
 

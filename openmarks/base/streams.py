@@ -1,7 +1,7 @@
 """Streams of tags: what can stand in them, and which nodes they open and close."""
 
 from openmarks.base.checks import check_plain, is_integer
-from openmarks.base.labels import check_labels, closing_tag, opening_tag
+from openmarks.base.labels import check_labels
 from openmarks.errors import BadTag, InvalidNumber, NothingToUndo
 
 MAX_NODES = 5000
@@ -17,7 +17,7 @@ class Trail:
     """
 
     def __init__(self, labels, plain):
-        self.closings = {opening_tag(label): closing_tag(label, plain) for label in labels}
+        self.closings = {"+" + label: "-" if plain else "-" + label for label in labels}
         self.seen = []
         self.opened = []
         self.parents = []
@@ -41,13 +41,12 @@ class Trail:
         if not isinstance(tags, tuple):
             raise BadTag(before)
         done = self.go_on(tags)
-        self.seen.extend(tags[:done])
         if done < len(tags):
             self.back(done)
             raise BadTag(before + done)
 
     def go_on(self, tags):
-        """Open and close nodes up to the first wrong tag, and return how many tags were right."""
+        """Read the tags up to the first wrong one, and return how many were read."""
         closings, opened, parents, closed = self.closings, self.opened, self.parents, self.closed
         node = self.current
         done = 0
@@ -65,6 +64,7 @@ class Trail:
                 break
             done += 1
         self.current = node
+        self.seen.extend(tags[:done])
         return done
 
     def back(self, many):
@@ -115,16 +115,10 @@ class Trail:
 
     def named_tags(self):
         """Return the tags with named closings, whatever the closings that were read."""
-        tags = []
-        # The nodes are closed in their order, so that no stack of open ones is needed.
-        many = 0
-        for tag in self.seen:
-            if is_opening(tag):
-                tags.append(tag)
-            else:
-                tags.append("-" + self.opened[self.closed[many]][1:])
-                many += 1
-        return tuple(tags)
+        named = {tag: "-" + tag[1:] for tag in self.closings}
+        # The closings in the order of the nodes that they close, the first one last.
+        ends = [named[self.opened[node]] for node in self.closed[::-1]]
+        return tuple([tag if tag in named else ends.pop() for tag in self.seen])
 
 
 def is_opening(tag):
@@ -135,7 +129,12 @@ def is_opening(tag):
 def trail_of(labels, stream, plain):
     """Return the trail of a beginning; the labels and the kind of closings were checked."""
     trail = Trail(labels, plain)
-    trail.take(stream)
+    if not isinstance(stream, tuple):
+        raise BadTag(0)
+    # Nothing needs to be taken back, as the trail is not used behind an error.
+    done = trail.go_on(stream)
+    if done < len(stream):
+        raise BadTag(done)
     return trail
 
 
