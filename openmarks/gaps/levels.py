@@ -76,7 +76,7 @@ class Study:
             at = s
         return tuple(links)
 
-    def paper(self):
+    def proof(self):
         """Return a number paper."""
         if self.turn is not None:
             p, s = self.turn
@@ -95,7 +95,7 @@ def studied(query, plain):
 def limited(study):
     """Raise Unlimited if the query has no number."""
     if study.turn is not None:
-        raise Unlimited(study.paper())
+        raise Unlimited(study.proof())
 
 
 def pairs_in_chain(least, value, plain):
@@ -152,7 +152,7 @@ def chain_states(query, chain, *, plain=False):
 
 def number_paper(query, *, plain=False):
     """Return a number paper."""
-    return studied(query, plain).paper()
+    return studied(query, plain).proof()
 
 
 def are_levels_for(least, value, most, plain):

@@ -63,8 +63,8 @@ class Reader:
         check_plain(plain)
         self._query = query
         self._plain = plain
-        self._columns = columns_of(query[0])
         self._trail = Trail(query[0], plain)
+        self._columns = columns_of(self._trail.closings)
         self._states = []
 
     def take(self, *tags):
@@ -74,13 +74,13 @@ class Reader:
     def take_all(self, tags):
         """Read a tuple of tags, and return the colours of the nodes that they open."""
         _, roots, rows, colours = self._query
-        trail, states = self._trail, self._states
+        trail, states, columns = self._trail, self._states, self._columns
         before = len(states)
         trail.take(tags)
         for node in range(before, len(trail.opened)):
             parent = trail.parents[node]
             row = roots if parent is None else rows[states[parent]]
-            states.append(row[self._columns[trail.opened[node][1:]]])
+            states.append(row[columns[trail.opened[node]]])
         return tuple([colours[state] for state in states[before:]])
 
     def __call__(self, tag):

@@ -67,9 +67,9 @@ def query_from(colours, roots, moves):
     return query
 
 
-def columns_of(labels):
-    """Return a dict from each label to its place."""
-    return {label: k for k, label in enumerate(labels)}
+def columns_of(names):
+    """Return a dict from each of the names, such as labels, to its place among them."""
+    return {name: k for k, name in enumerate(names)}
 
 
 def state_behind(query, word, start):
