@@ -18,7 +18,7 @@ class Study:
 
     def __init__(self, least, plain):
         self.least = least
-        self.plain = plain
+        self.plainly = plain
         self.relations = Relations(least[2], plain)
         self.turn = None
         number = self.relations.number
@@ -59,7 +59,7 @@ class Study:
 
     def gap(self, p, s):
         """Return a gap with these states, which have one."""
-        return gap_words(self.least, self.relations, p, s, self.plain)
+        return gap_words(self.least, self.relations, p, s, self.plainly)
 
     def chain_to(self, state):
         """Return a longest chain that comes to the state."""

@@ -7,12 +7,15 @@ from openmarks.errors import InvalidDocument, InvalidOperation, UnknownName
 from openmarks.queries.queries import check_query, columns_of
 
 
+def is_document_with(value, labels):
+    """Return whether the value is a document with only these labels."""
+    return isinstance(value, Document) and all([label in labels for label in value.labels])
+
+
 def check_labels_of(document, labels):
     """Raise InvalidDocument if the value is not a document with only these labels."""
-    if not isinstance(document, Document):
-        raise InvalidDocument("not a document")
-    if not all([label in labels for label in document.labels]):
-        raise InvalidDocument("the document has a label that the query has not")
+    if not is_document_with(document, labels):
+        raise InvalidDocument("not a document with labels of the query")
 
 
 def states_in(query, document):
