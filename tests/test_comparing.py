@@ -248,6 +248,10 @@ class Papers(unittest.TestCase):
         for value in others + list(WRONG):
             self.assertIs(is_same_paper(ONE, same, value), False, value)
         self.assertIs(is_same_paper(ONE, same, ("same", table)), True)
+        for visit, stands in (((0, 1, 1, 0), ((0, 1, 1, 1, 0, 0),)), ((0, 0, 1, 1), ((0, 0, 0, 1, 1, 1),))):
+            self.assertIs(is_same_paper(ONE, same, ("same", table + ((visit, stands),))), False)
+        for stand in ((0, 1, 0, 1, 0, 0), (0, 0, 1, 1, 0, 0), (0, 0, 0, 1, 1, 0), (0, 0, 0, 1, 0, 1)):
+            self.assertIs(is_same_paper(ONE, same, ("same", ((table[0][0], table[0][1] + (stand,)),))), False)
         more = (((0, 0, 0, 0), ((0, 0, 0, 0, 0, 0), (0, 0, 0, 1, 0, 0))), table[0])
         self.assertIs(is_same_paper(ONE, same, ("same", more)), True)
         self.assertIs(is_same_paper(ONE, same, ("same", more[::-1])), False)

@@ -259,6 +259,18 @@ class Clashes(unittest.TestCase):
             self.assertIs(is_clash(BLIND, CHILD, (LINK,), ((1,), (later,))), False)
             check_raises(self, InvalidOperation, split_documents, BLIND, CHILD, (LINK,), ((1,), (later,)))
 
+    def test_sizes(self):
+        link = (("b",), ("a",), ("a",))
+        for later, right in ((4898, True), (4899, True), (4900, False)):
+            self.assertIs(is_clash(BLIND, STEPS, (link,), ((1,), (later,))), right)
+        self.assertTrue(self.check_split(BLIND, STEPS, (link,), ((1,), (4899,))))
+
+    def test_last_unlike_link(self):
+        """The descents are closed up to the last link at which the counts differ."""
+        links = ((("b",), ("a",) * 3, ("a",) * 3), (("a",), ("b", "b"), ("b", "b")))
+        for clash in (((1, 3), (2, 3)), ((2, 1), (5, 1)), ((1, 2), (1, 4)), ((1, 5), (2, 3)), ((1, 2), (2, 4))):
+            self.assertTrue(self.check_split(BLIND, STEPS, links, clash))
+
     def test_right_machine(self):
         chain = longest(BELOW, False)
         self.assertIsNone(enough_counts(FIRST, BELOW, chain))

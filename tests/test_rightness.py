@@ -174,17 +174,26 @@ class Table(unittest.TestCase):
                     self.assertIs(is_rightness_paper(machine, ANY, ("right", table)), True)
 
     def test_just_20000(self):
-        # A row of states for each of which there is a visit with as many stands as are behind it.
-        for many, right in ((199, True), (200, False)):
-            opens = tuple((("x", 0, k), ("x", 0, min(k + 1, many))) for k in range(many + 1))
-            closes = tuple((((0, min(k + 1, many)),),) for k in range(many + 1))
-            machine = (AB, True, 0, opens, closes)
-            stands = sum(many + 1 - k for k in range(many + 1))
-            self.assertEqual(stands <= 20000, many < 199 or stands <= 20000)
-            if stands <= 20000:
-                self.assertEqual(sum(len(one) for _, one in table_of(machine, ANY)), stands)
+        """Two groups of 100 states of 100 visits each; a third group has one state."""
+        for third, right in ((False, True), (True, False)):
+            groups = [range(1, 101), range(101, 201)] + ([range(201, 202)] if third else [range(101, 201)])
+            opens = [tuple(("x", 0, group[0]) for group in groups)]
+            closes = [((0, 0),)]
+            for group in groups[:3 if third else 2]:
+                for state in group:
+                    after = group[(state + 1 - group[0]) % len(group)]
+                    opens.append((("x", 0, state), ("x", 0, after), ("x", 0, after)))
+                    closes.append(((0, after),))
+            machine = (("a", "b", "c"), True, 0, tuple(opens), tuple((entry,) for entry in closes))
+            query = (("a", "b", "c"), (0,) * 3, ((0,) * 3,), ("x",))
+            if right:
+                table = table_of(machine, query)
+                self.assertEqual((len(table), sum(len(stands) for _, stands in table)), (200, 20000))
+                self.assertIs(is_rightness_paper(machine, query, ("right", table)), True)
+                self.assertEqual((is_right(machine, query), error_document(machine, query)), (True, None))
             else:
-                check_keeps(self, TooMany, "limit", 20000, table_of, machine, ANY)
+                for call in (table_of, is_right, error_document, rightness_paper, first_of(confusions)):
+                    check_keeps(self, TooMany, "limit", 20000, call, machine, query)
 
 
 class Right(unittest.TestCase):
@@ -326,6 +335,12 @@ class Papers(unittest.TestCase):
             ("right", with_part(table, (visit, stands + ((2, 0, 0),)), 1)), ("right", ()), ("right", TREE),
             ("wrong", TREE), ("wrong", Document.read("c")), ("wrong", str(TREE)), ("wrong", None), ("right", None),
             ("right", table[:1] + table)]
+        for stand in (stands[0][:2], stands[0] + (0,), (), (0,), None, 0):
+            others.append(("right", with_part(table, (visit, (stand,) + stands[1:]), 1)))
+            others.append(("right", with_part(table, (visit, stands + (stand,)), 1)))
+        for other in (visit[:2], visit + (0,), ()):
+            others.append(("right", with_part(table, (other, stands), 1)))
+            others.append(("right", ((other, stands),) + table))
         for part in (None, True, False, -1, 3, 2, 10 ** 59, "a", (), [], {}, TREE):
             for k in range(3):
                 if visit[k] != part or type(part) is bool:

@@ -1,6 +1,5 @@
 """Machines compared, and machines that tell other colours or run side by side."""
 
-from openmarks.base.labels import is_label
 from openmarks.errors import InvalidOperation, TooMany
 from openmarks.machines.machines import (
     MAX_MACHINE_STATES, MAX_MARKS, check_machine, colours_of_run)
@@ -8,6 +7,7 @@ from openmarks.machines.rightness import filled_table, wrong_document
 from openmarks.machines.tables import is_closed_table
 from openmarks.machines.walks import TwoMachines
 from openmarks.queries.colouring import check_labels_of, is_document_with
+from openmarks.queries.combining import are_colours, are_joint_colours
 
 
 def check_machines(first, second):
@@ -69,18 +69,6 @@ def recoloured_machine(machine, colours):
         tuple([(colours.get(colour, colour), placed, after) for colour, placed, after in row])
         for row in opens]
     return (labels, plain, marks, tuple(told), closes)
-
-
-def are_colours(values):
-    """Return whether all values are colours."""
-    return all([is_label(value) for value in values])
-
-
-def are_joint_colours(value):
-    """Return whether the value is a dict from pairs of colours to colours."""
-    if not isinstance(value, dict) or not are_colours(list(value.values())):
-        return False
-    return all([isinstance(pair, tuple) and len(pair) == 2 and are_colours(pair) for pair in value])
 
 
 def colours_in(machine):
