@@ -1,8 +1,9 @@
 """Documents that are kept as a whole, and folded documents."""
 
-from openmarks.base.checks import check_index, is_index
+from openmarks.base.checks import check_index
 from openmarks.base.labels import MAX_LABELS, MAX_WORD, closing_tag, is_label, opening_tag
-from openmarks.base.streams import MAX_NODES, Trail, is_opening
+from openmarks.base.streams import MAX_NODES, is_opening
+from openmarks.documents.trees import heights_of, nodes_in_text, nodes_of_parts, nodes_opened, sizes_of
 from openmarks.errors import (
     BadTag, InvalidDocument, InvalidLabels, InvalidOperation, InvalidWord, ParseError, TooMany)
 
@@ -13,24 +14,18 @@ MAX_POSITIONS = 5000
 class Document:
     """A document, which never changes.
 
-    It keeps its tags, the label and the parent of each node, how many nodes there
-    are in the tree below and with each node, and how many are above each node.
+    It keeps its tags, and the label and the parent of each node. The depth and the sizes
+    of all trees below its nodes are worked out when they are first needed.
     """
 
     MOST_NODES = 5000
 
     def __init__(self, *tags):
-        labels = labels_opened(tags)
-        trail = Trail(labels, False)
-        trail.take(tags)
-        if not trail.is_whole():
-            raise BadTag(len(tags))
         self._tags = tags
-        self._labels = tuple(sorted(labels))
-        self._names = tuple([tag[1:] for tag in trail.opened])
-        self._parents = tuple(trail.parents)
-        self._sizes = sizes_of(trail.parents)
-        self._heights = heights_of(trail.parents)
+        labels, self._names, self._parents = nodes_opened(tags)
+        self._labels = tuple(labels)
+        self._sizes = None
+        self._depth = None
 
     @classmethod
     def of(cls, tags):
@@ -44,15 +39,8 @@ class Document:
         """Return the document with this text."""
         if not isinstance(text, str):
             raise ParseError("not the text of a document")
-        tags = tags_in_text(text)
-        try:
-            document = cls(*tags)
-        except BadTag:
-            raise ParseError("not the text of one tree with few labels and nodes")
-        # Blanks and parentheses were read loosely; there is just one text for a document.
-        if str(document) != text:
-            raise ParseError("not written like the text of a document")
-        return document
+        labels, tags, names, parents = nodes_in_text(text)
+        return filled(cls("+a", "-a"), labels, tags, names, parents)
 
     @staticmethod
     def chain(word):
@@ -64,8 +52,10 @@ class Document:
         labels = sorted(set(word))
         if len(labels) > MAX_LABELS or not all([is_label(label) for label in labels]):
             raise InvalidWord("not at most four different labels")
-        tags = [opening_tag(label) for label in word] + [closing_tag(label, False) for label in word[::-1]]
-        return Document(*tags)
+        openings = {label: opening_tag(label) for label in labels}
+        closings = {label: closing_tag(label, False) for label in labels}
+        tags = [openings[label] for label in word] + [closings[label] for label in word[::-1]]
+        return filled(Document("+a", "-a"), labels, tags, list(word), [None] + list(range(len(word) - 1)))
 
     @property
     def tags(self):
@@ -85,7 +75,9 @@ class Document:
     @property
     def depth(self):
         """The greatest number of nodes within one another."""
-        return max(self._heights) + 1
+        if self._depth is None:
+            self._depth = max(heights_of(self._parents)) + 1
+        return self._depth
 
     def __getitem__(self, node):
         check_index(node, len(self._names))
@@ -114,16 +106,16 @@ class Document:
             return False
         if not all([isinstance(label, str) for label in path]):
             return False
-        # Whether the path of each node is a beginning of the path; a parent comes first.
+        # For each node the length of its path if the given one begins with it, or else -1.
         fits = []
-        for node in range(len(self._names)):
-            height = self._heights[node]
-            fit = height < len(path) and self._names[node] == path[height]
-            if height > 0:
-                fit = fit and fits[self._parents[node]]
-            if fit and height + 1 == len(path):
+        for name, parent in zip(self._names, self._parents):
+            ahead = 0 if parent is None else fits[parent]
+            if ahead < 0 or name != path[ahead]:
+                fits.append(-1)
+            elif ahead + 1 == len(path):
                 return True
-            fits.append(fit)
+            else:
+                fits.append(ahead + 1)
         return False
 
     def parent(self, node):
@@ -134,6 +126,8 @@ class Document:
     def children(self, node):
         """Yield the children of a node in order."""
         check_index(node, len(self._names))
+        if self._sizes is None:
+            self._sizes = sizes_of(self._parents)
         child = node + 1
         while child < node + self._sizes[node]:
             yield child
@@ -147,43 +141,67 @@ class Document:
     def subtree(self, node):
         """Return the document whose root is this node."""
         check_index(node, len(self._names))
-        tags = self._tags[self._start(node):self._end(node)]
-        return Document(*tags)
+        behind = self._behind(node)
+        tags = self._tags[self._place(node, node):self._place(node, behind)]
+        parents = [None] + [parent - node for parent in self._parents[node + 1:behind]]
+        names = self._names[node:behind]
+        return filled(Document("+a", "-a"), sorted(set(names)), tags, names, parents)
 
-    def _start(self, node):
-        """Return the position of the opening of the node."""
+    def _behind(self, node):
+        """Return the number of the first node behind a node and all nodes below it."""
+        parents = self._parents
+        many = len(parents)
+        behind = node + 1
+        while behind < many and parents[behind] >= node:
+            behind += 1
+        return behind
+
+    def _place(self, node, other):
+        """Return the number of tags ahead of another node that has the same parent.
+
+        It may also be the place for a node that does not exist, behind all children.
+        """
         # All nodes ahead were opened, and all of them that are not above it were closed.
-        return 2 * node - self._heights[node]
-
-    def _end(self, node):
-        """Return the position behind the closing of the node."""
-        return self._start(node) + 2 * self._sizes[node]
+        place = 2 * other
+        while self._parents[node] is not None:
+            node = self._parents[node]
+            place -= 1
+        return place
 
     def with_child(self, node, other, *, index=None):
         """Return the document with another one as one more child of the node."""
         check_index(node, len(self._names))
         if not isinstance(other, Document):
             raise InvalidDocument("the child is not a document")
-        starts = [self._start(child) for child in self.children(node)]
-        starts.append(self._end(node) - 1)
-        if index is None:
-            index = len(starts) - 1
-        check_index(index, len(starts))
-        if len(set(self._labels + other._labels)) > MAX_LABELS:
+        at = self._behind(node)
+        if index is not None:
+            starts = [*list(self.children(node)), at]
+            check_index(index, len(starts))
+            at = starts[index]
+        labels = sorted(set(self._labels + other._labels))
+        if len(labels) > MAX_LABELS:
             raise InvalidDocument("more than four labels")
-        if len(self._names) + len(other._names) > MAX_NODES:
+        many = len(other._names)
+        if len(self._names) + many > MAX_NODES:
             raise TooMany(MAX_NODES)
-        at = starts[index]
-        tags = self._tags[:at] + other._tags + self._tags[at:]
-        return Document(*tags)
+        place = self._place(node, at) - 1
+        tags = self._tags[:place] + other._tags + self._tags[place:]
+        names = self._names[:at] + other._names + self._names[at:]
+        parents = self._parents[:at] + [node] + [parent + at for parent in other._parents[1:]]
+        parents.extend([parent if parent < at else parent + many for parent in self._parents[at:]])
+        return filled(Document("+a", "-a"), labels, tags, names, parents)
 
     def without(self, node):
         """Return the document without this node and everything below it."""
         check_index(node, len(self._names))
         if node == 0:
             raise InvalidOperation("the root cannot be left out")
-        tags = self._tags[:self._start(node)] + self._tags[self._end(node):]
-        return Document(*tags)
+        behind = self._behind(node)
+        many = behind - node
+        tags = self._tags[:self._place(node, node)] + self._tags[self._place(node, behind):]
+        names = self._names[:node] + self._names[behind:]
+        parents = [parent if parent < node else parent - many for parent in self._parents[behind:]]
+        return filled(Document("+a", "-a"), sorted(set(names)), tags, names, self._parents[:node] + parents)
 
     def relabelled(self, **names):
         """Return the document in which each label that is a keyword is replaced by its value."""
@@ -195,40 +213,23 @@ class Document:
             raise InvalidLabels("not a dict")
         if not all([is_label(name) for name in [*list(names.keys()), *list(names.values())]]):
             raise InvalidLabels("a key or a value is not a label")
-        changed = {sign + label: sign + names.get(label, label) for label in self._labels for sign in ("+", "-")}
+        new = {label: names.get(label, label) for label in self._labels}
+        changed = {sign + label: sign + new[label] for label in self._labels for sign in ("+", "-")}
         tags = [changed[tag] for tag in self._tags]
-        return Document(*tags)
+        names_now = [new[name] for name in self._names]
+        return filled(Document("+a", "-a"), sorted(set(list(new.values()))), tags, names_now, self._parents)
 
 
-def labels_opened(tags):
-    """Return the first four labels of nodes that the tags open.
+def filled(document, labels, tags, names, parents):
+    """Give a new document other labels, tags and nodes, which fit one another, and return it.
 
-    With these labels, a tag that opens a node with a fifth one cannot stand anywhere.
+    The lists of the nodes are kept, and never changed. So nothing needs to be read again.
     """
-    labels = []
-    known = {}
-    for tag in tags:
-        if isinstance(tag, str) and tag not in known:
-            known[tag] = True
-            if tag.startswith("+") and is_label(tag[1:]) and len(labels) < MAX_LABELS:
-                labels.append(tag[1:])
-    return labels
-
-
-def heights_of(parents):
-    """Return for each node how many nodes are above it."""
-    heights = []
-    for parent in parents:
-        heights.append(0 if parent is None else heights[parent] + 1)
-    return heights
-
-
-def sizes_of(parents):
-    """Return for each node how many nodes are in the tree whose root it is."""
-    sizes = [1] * len(parents)
-    for node in range(len(parents) - 1, 0, -1):
-        sizes[parents[node]] += sizes[node]
-    return sizes
+    document._labels = tuple(labels)
+    document._tags = tuple(tags)
+    document._names = names
+    document._parents = parents
+    return document
 
 
 def pieces_of_text(tags):
@@ -247,49 +248,26 @@ def pieces_of_text(tags):
     return pieces
 
 
-def tags_in_text(text):
-    """Return the tags for a text, which may have blanks and parentheses too many."""
-    tags = []
-    above = []
-    # The label of the node that is closed unless children follow.
-    last = None
-    for word in text.replace("(", " ( ").replace(")", " ) ").split(" "):
-        if word == "":
-            continue
-        if word == "(":
-            if last is None:
-                raise ParseError("parentheses behind no label")
-            above.append(last)
-            last = None
-            continue
-        if last is not None:
-            tags.append(closing_tag(last, False))
-        if word == ")":
-            if not above:
-                raise ParseError("more parentheses are closed than opened")
-            last = above.pop()
-        else:
-            tags.append(opening_tag(word))
-            last = word
-    if last is not None:
-        tags.append(closing_tag(last, False))
-    return tags
-
-
-def is_part(value, many):
-    """Return whether the value is a part that can stand behind so many other ones."""
-    if not isinstance(value, tuple) or len(value) != 2 or not is_label(value[0]):
-        return False
-    if not isinstance(value[1], tuple) or len(value[1]) > MAX_POSITIONS:
-        return False
-    return all([is_index(position, many) for position in value[1]])
-
-
 def is_folded(value):
     """Return whether the value is a folded document."""
     if not isinstance(value, tuple) or not 1 <= len(value) <= MAX_PARTS:
         return False
-    return all([is_part(part, many) for many, part in enumerate(value)])
+    labels = {}
+    for many, part in enumerate(value):
+        if not isinstance(part, tuple) or len(part) != 2:
+            return False
+        label, positions = part
+        if not isinstance(label, str) or not isinstance(positions, tuple) or len(positions) > MAX_POSITIONS:
+            return False
+        if label not in labels:
+            if not is_label(label):
+                return False
+            labels[label] = True
+        for position in positions:
+            # Written out here, as a part can have thousands of positions.
+            if type(position) is not int or not 0 <= position < many:
+                return False
+    return True
 
 
 def check_folded(parts):
@@ -331,7 +309,10 @@ def size_of_parts(parts):
     """Return the number of nodes of the tree for the last part."""
     sizes = []
     for _, positions in parts:
-        sizes.append(1 + sum([sizes[position] for position in positions]))
+        size = 1
+        for position in positions:
+            size += sizes[position]
+        sizes.append(size)
     return sizes[-1]
 
 
@@ -349,20 +330,10 @@ def labels_used(parts):
 def spelled(parts):
     """Return the document that a folded document stands for."""
     check_folded(parts)
-    if len(labels_used(parts)) > MAX_LABELS:
+    # Only where there are many labels, it matters which ones are used.
+    if len(set([label for label, _ in parts])) > MAX_LABELS and len(labels_used(parts)) > MAX_LABELS:
         raise InvalidDocument("more than four labels")
     if size_of_parts(parts) > MAX_NODES:
         raise TooMany(MAX_NODES)
-    tags = []
-    # What is still to be written, the next last: closing tags, and positions of parts.
-    rest = [len(parts) - 1]
-    while rest:
-        item = rest.pop()
-        if isinstance(item, str):
-            tags.append(item)
-        else:
-            label, positions = parts[item]
-            tags.append(opening_tag(label))
-            rest.append(closing_tag(label, False))
-            rest.extend(positions[::-1])
-    return Document(*tags)
+    tags, names, parents = nodes_of_parts(parts)
+    return filled(Document("+a", "-a"), sorted(set(names)), tags, names, parents)
