@@ -1,7 +1,7 @@
 """Which states are the same below, which form rings, and between which there are gaps."""
 
 from openmarks.base.checks import check_index, check_plain, is_index
-from openmarks.base.labels import MAX_WORD, is_word
+from openmarks.base.labels import MAX_WORD
 from openmarks.gaps.relations import Relations, gap_words, parts_of, rings_among, word_between
 from openmarks.queries.queries import least_query, state_behind
 
@@ -50,8 +50,13 @@ def gap_between(query, p, s, *, plain=False):
 
 
 def is_passed_word(labels, value):
-    """Return whether the value is a word of the labels that is short enough to be passed."""
-    return is_word(labels, value) and len(value) <= MAX_WORD
+    """Return whether the value is a word of the labels of a query that is short enough to be passed."""
+    if not isinstance(value, tuple) or len(value) > MAX_WORD:
+        return False
+    for label in value:
+        if label not in labels:
+            return False
+    return True
 
 
 def is_gap_of(least, value, plain):

@@ -1,10 +1,11 @@
 """Chains of gaps, levels of states, and the number of bookmarks that a query needs."""
 
 from openmarks.base.checks import check_index, check_plain, is_index
+from openmarks.base.labels import MAX_WORD
 from openmarks.errors import InvalidChain, Unlimited
 from openmarks.gaps.gaps import is_gap_of, is_passed_word
 from openmarks.gaps.relations import Relations, gap_words, word_between
-from openmarks.queries.queries import least_query, state_behind
+from openmarks.queries.queries import columns_of, least_query, state_behind
 from openmarks.queries.refining import states_before
 
 
@@ -102,20 +103,57 @@ def pairs_in_chain(least, value, plain):
     """Return the pairs (p, s) of the links of a chain, or None if the value is not a chain."""
     if not isinstance(value, tuple):
         return None
+    columns = columns_of(least[0])
     pairs = []
     state = None
+    # The link that was last judged behind each state, as links can occur many times.
+    judged = {}
     for link in value:
-        if not isinstance(link, tuple) or len(link) != 3 or not is_passed_word(least[0], link[0]):
-            return None
-        down, word, other = link
-        p = state_behind(least, down, state)
-        if p is None or not is_passed_word(least[0], word):
-            return None
-        state = state_behind(least, word, p)
-        if not is_gap_of(least, (p, word, other, state), plain):
-            return None
-        pairs.append((p, state))
+        if state in judged and judged[state][0] == link:
+            pair = judged[state][1]
+        else:
+            pair = pair_of_link(least, columns, link, state, plain)
+            if pair is None:
+                return None
+            judged[state] = (link, pair)
+        pairs.append(pair)
+        state = pair[1]
     return tuple(pairs)
+
+
+def pair_of_link(least, columns, link, start, plain):
+    """Return the pair (p, s) of a link behind a state, or None if the value is none."""
+    if not isinstance(link, tuple) or len(link) != 3:
+        return None
+    down, word, other = link
+    p = state_behind_value(least, columns, down, start)
+    if p is None or word == ():
+        return None
+    s = state_behind_value(least, columns, word, p)
+    if s is None or state_behind_value(least, columns, other, s) != s:
+        return None
+    if least[2][p] == least[2][s] or len(word) != len(other) or not (plain or word == other):
+        return None
+    return (p, s)
+
+
+def state_behind_value(least, columns, value, start):
+    """Return the state behind a word from a state, or behind a path for None.
+
+    Returns None if the value is not a word that can be passed, or the path is empty.
+    """
+    if not isinstance(value, tuple) or len(value) > MAX_WORD:
+        return None
+    labels, roots, rows, _ = least
+    state = start
+    row = roots if start is None else rows[start]
+    for label in value:
+        # Other values than labels may have no place in a dict.
+        if label not in labels:
+            return None
+        state = row[columns[label]]
+        row = rows[state]
+    return state
 
 
 def is_chain(query, value, *, plain=False):
