@@ -3,7 +3,7 @@
 from openmarks.base.checks import check_plain, is_index, is_integer
 from openmarks.base.labels import check_labels, is_label
 from openmarks.base.streams import Trail
-from openmarks.desk.edits import copied, make_edit, shown, values_of
+from openmarks.desk.edits import copied, is_fixed, make_edit, shown, values_of
 from openmarks.desk.questions import is_question, names_in, number_together
 from openmarks.errors import (
     InvalidEdit, InvalidNumber, InvalidOperation, NothingToUndo, TooMany, UnknownName, Unlimited)
@@ -15,8 +15,8 @@ from openmarks.queries.queries import columns_of
 class Desk:
     """Named queries and formulas, edited in groups; a document that is read; and questions.
 
-    The groups are triples: the edits as they were passed, and the definitions and the values
-    behind the group. The first many of them are in effect; those behind them can be made
+    The groups have four parts: the edits as they were passed, whether they can be shared, and
+    the definitions and the values behind the group. The first many of them are in effect; those behind them can be made
     again. The numbers are those of some queries for the closings of the desk. The states
     have for a name a query and its states at the first nodes. Only the trail and the lists
     of states are ever changed; all else is replaced as a whole.
@@ -125,7 +125,7 @@ class Desk:
             make_edit(definitions, self._labels, edit)
         values = values_of(definitions, self._definitions, self._values)
         self._check_values(values, self._budget)
-        self._groups = self._groups[:self._many] + ((copied(edits), definitions, values),)
+        self._groups = self._groups[:self._many] + ((copied(edits), is_fixed(edits), definitions, values),)
         return self._move_to(self._many + 1)
 
     def undo(self, many=1):
@@ -147,13 +147,13 @@ class Desk:
 
     def _values_behind(self, many):
         """Return the values behind so many groups."""
-        return self._groups[many - 1][2] if many > 0 else {}
+        return self._groups[many - 1][3] if many > 0 else {}
 
     def _move_to(self, many):
         """Let so many groups be in effect, and note what changes."""
         before = self._values
         self._many = many
-        self._definitions = self._groups[many - 1][1] if many > 0 else {}
+        self._definitions = self._groups[many - 1][2] if many > 0 else {}
         self._values = self._values_behind(many)
         self._numbers = {query: self._numbers[query] for query in self._values.values() if query in self._numbers}
         self._states = {name: kept for name, kept in self._states.items() if name in self._values}
@@ -162,7 +162,8 @@ class Desk:
 
     def log(self):
         """Return the groups in effect, each as the tuple of its edits."""
-        return tuple([copied(edits) for edits, _, _ in self._groups[:self._many]])
+        groups = self._groups[:self._many]
+        return tuple([edits if fixed else copied(edits) for edits, fixed, _, _ in groups])
 
     def _number(self, query):
         """Return the number of a query, or None."""

@@ -186,8 +186,9 @@ class Budget:
         return fitting
 
     def __str__(self):
-        closings = "plain" if self._plain else "named"
-        return f"{self._marks} bookmarks, {closings} closings"
+        if self._plain:
+            return f"{self._marks} bookmarks, plain closings"
+        return f"{self._marks} bookmarks, named closings"
 
     def __eq__(self, value):
         if not isinstance(value, Budget):

@@ -180,7 +180,8 @@ def query_in(labels, text):
 def text_of_machine(machine):
     """Return the text of a machine."""
     labels, plain, marks, opens, closes = machine
-    lines = ["labels " + " ".join(labels), f"{'plain' if plain else 'named'} {marks}"]
+    closings = "plain" if plain else "named"
+    lines = ["labels " + " ".join(labels), f"{closings} {marks}"]
     for state, row in enumerate(opens):
         for label, (colour, placed, after) in zip(labels, row):
             lines.append(f"{state} {opening_tag(label)} {colour} {placed} {after}")
