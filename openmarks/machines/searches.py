@@ -4,7 +4,7 @@ from heapq import heappop, heappush
 
 from openmarks.base.labels import closing_tag, opening_tag
 from openmarks.documents.documents import Document
-from openmarks.machines.tables import brings_at
+from openmarks.machines.tables import brings_at, left_by
 
 
 class Search:
@@ -96,11 +96,11 @@ class Search:
         """Note the stands of parents behind a child that brings one of these."""
         for brings in many:
             cost, last = self.brings[child][place][brings]
-            (kept, added), after = brings
+            later, put, after = brings
             for caller in callers:
                 number, marks = caller
                 ahead, stand, k = self.callers[child][place][caller]
-                behind = (after, marks & kept | added)
+                behind = (after, left_by(self.walk, marks, later) | put)
                 if self.costs[number].get(behind, ahead + cost + 2) > ahead + cost + 1:
                     self.propose(number, behind, ahead + cost + 1, (stand, k, child, last))
 

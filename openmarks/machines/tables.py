@@ -23,22 +23,27 @@ def stands_of(groups):
 
 
 def brings_at(walk, state, marks, place):
-    """Return what the closing of a node at a stand brings to its parent, and the state behind it.
+    """Return what the closing of a node at a stand brings to its parent.
 
-    It is a pair: what the sets (on, taken) of the parent keep, and what they get. The
-    parent loses all bookmarks that were put down below it.
+    These are all bookmarks that were put down since the opening of the node, those that
+    are put on the parent, and the state behind the closing.
     """
     put, after = walk.closing(state, place, marks & walk.every)
-    later = marks >> walk.bits | put
-    return (~later | walk.every << walk.bits, put | later << walk.bits), after
+    return marks >> walk.bits | put, put, after
+
+
+def left_by(walk, marks, later):
+    """Return what is left of the sets of a stand when these bookmarks were put down below it."""
+    return marks & ~later | later << walk.bits
 
 
 def brought(walk, groups, place):
-    """Return a dict from what closings at stands bring to the states behind them."""
+    """Return what closings at stands bring: the states for what was put down, and on the parent."""
     found = {}
     for state, marks in stands_of(groups):
-        brings, after = brings_at(walk, state, marks, place)
-        found[brings] = found.get(brings, 0) | 1 << after
+        later, put, after = brings_at(walk, state, marks, place)
+        puts = found.setdefault(later, {})
+        puts[put] = puts.get(put, 0) | 1 << after
     return found
 
 
@@ -46,9 +51,10 @@ class Table:
     """The visits and stands of a walk, and how many stands these are, for each visit.
 
     Visits have numbers, by their places in order. For each visit, found has its stands,
-    and fresh those of them from which the rules are still to be followed; callers has, for
-    each place of a closing and each visit, by its number, the sets with which such a child
-    can be opened, and brings what the closing of the child brings to each of them.
+    and fresh those of them from which the rules are still to be followed. For each place of
+    a closing, brings has what the closing of such a node brings, and callers, by the numbers
+    of visits, the sets with which it can be opened below them, and what is left of these by
+    all bookmarks that it brings. Often the same is left of many sets.
     """
 
     def __init__(self, walk, most):
@@ -119,36 +125,39 @@ class Table:
 
     def add_caller(self, child, place, number, marks):
         """Note that a child can be opened at stands of a visit with the same sets."""
-        many = self.callers[child].setdefault(place, {}).setdefault(number, {})
-        if marks in many:
+        callers = self.callers[child].setdefault(place, {})
+        every, left_of = callers.setdefault(number, ({}, {}))
+        if marks in every:
             return
-        many[marks] = True
+        every[marks] = True
         if place not in self.brings[child]:
             self.brings[child][place] = brought(self.walk, self.found[child], place)
-        self.bring({number: [marks]}, self.brings[child][place])
+        for later, puts in self.brings[child][place].items():
+            left = left_by(self.walk, marks, later)
+            known = left_of.setdefault(later, {})
+            if left not in known:
+                known[left] = True
+                self.bring(number, [left], puts)
 
     def close_fresh(self, number, fresh):
         """Note what the closing of a node at fresh stands brings to its parents."""
         for place, callers in self.callers[number].items():
             known = self.brings[number][place]
-            new = {}
-            for brings, mask in brought(self.walk, fresh, place).items():
-                mask = mask & ~known.get(brings, 0)
-                if mask > 0:
-                    known[brings] = known.get(brings, 0) | mask
-                    new[brings] = mask
-            self.bring(callers, new)
+            for later, puts in brought(self.walk, fresh, place).items():
+                new = new_states(known.setdefault(later, {}), puts)
+                for caller, (every, left_of) in callers.items():
+                    if later not in left_of:
+                        left_of[later] = {left_by(self.walk, marks, later): True for marks in every}
+                    self.bring(caller, left_of[later], new)
 
-    def bring(self, callers, groups):
-        """Note the stands behind a child that brings one of these."""
-        for number, many in callers.items():
-            found = self.found[number]
-            for (kept, added), mask in groups.items():
-                for marks in many:
-                    behind = marks & kept | added
-                    # Nearly always there is nothing new.
-                    if mask & ~found.get(behind, 0) > 0:
-                        self.note(number, behind, mask)
+    def bring(self, number, many, puts):
+        """Note the stands of a visit behind children that put down bookmarks and are closed."""
+        found = self.found[number]
+        for put, mask in puts.items():
+            for left in many:
+                # Nearly always there is nothing new.
+                if mask & ~found.get(left | put, 0) > 0:
+                    self.note(number, left | put, mask)
 
     def told_pairs(self):
         """Return all pairs of a state of the query and what is told for a node in this state."""
@@ -172,6 +181,17 @@ class Table:
             stands = sorted([self.walk.written_stand(state, marks) for state, marks in stands_of(groups)])
             rows.append((self.walk.written_visit(visit), tuple(stands)))
         return tuple(sorted(rows))
+
+
+def new_states(known, groups):
+    """Add the states to those that are known, and return those that are new."""
+    new = {}
+    for key, mask in groups.items():
+        mask = mask & ~known.get(key, 0)
+        if mask > 0:
+            known[key] = known.get(key, 0) | mask
+            new[key] = mask
+    return new
 
 
 def states_in_groups(groups):
@@ -243,10 +263,14 @@ def is_closed_visit(walk, table, brings, visit):
             if walk.is_wrong(after, colours) or (after, behind, put) not in table:
                 return False
             openings[(marks, walk.places[k], (after, behind, put))] = True
+    done = {}
     for marks, place, child in openings:
         if (child, place) not in brings:
             brings[(child, place)] = brought(walk, table[child], place)
-        for (kept, added), mask in brings[(child, place)].items():
-            if mask & ~groups.get(marks & kept | added, 0) > 0:
-                return False
+        for later, puts in brings[(child, place)].items():
+            left = left_by(walk, marks, later)
+            if (child, place, later, left) not in done:
+                done[(child, place, later, left)] = True
+                if any([mask & ~groups.get(left | put, 0) > 0 for put, mask in puts.items()]):
+                    return False
     return True
