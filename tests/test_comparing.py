@@ -258,6 +258,14 @@ class Papers(unittest.TestCase):
         self.assertIs(is_same_paper(ONE, TWO, ("same", table)), False)
 
 
+    def test_unlike_colours(self):
+        """The joint table is a paper just if both machines tell equal colours at each opening."""
+        root = (("a",), True, 0, ((("y", 0, 1),), (("x", 0, 1),)), ((((0, 1),),),) * 2)
+        for first, second in SMALL + [(ONE, TWO), (TWO, TWO), (ONE, root), (root, ONE), (root, root)]:
+            paper = ("same", plain_table(first, second))
+            self.assertIs(is_same_paper(first, second, paper), tell_same(first, second))
+
+
 class Recoloured(unittest.TestCase):
 
     def test_machines(self):

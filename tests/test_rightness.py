@@ -356,6 +356,21 @@ class Papers(unittest.TestCase):
         more = with_part(table, (visit, stands + ((0, 1, 0),)), 1)
         self.assertIs(is_rightness_paper(FIRST, BELOW, ("right", more)), plain_closed(FIRST, BELOW, more))
 
+    def test_wrong_colours(self):
+        """The table of a machine is a paper just if the colour at each opening is right."""
+        for machine, query in SMALL + GREATER[::4]:
+            paper = ("right", table_of(machine, query))
+            self.assertIs(is_rightness_paper(machine, query, paper), is_right(machine, query))
+        for state in range(2):
+            for k in range(2):
+                row = with_part(FIRST[3][state], ("other",) + FIRST[3][state][k][1:], k)
+                machine = with_part(FIRST, with_part(FIRST[3], row, state), 3)
+                self.assertIs(is_rightness_paper(machine, BELOW, ("right", table_of(machine, BELOW))), False)
+        # Only the root is told a wrong colour.
+        machine = (("a",), True, 0, ((("y", 0, 1),), (("x", 0, 1),)), ((((0, 1),),),) * 2)
+        self.assertIs(is_rightness_paper(machine, ONE, ("right", table_of(machine, ONE))), False)
+        self.assertEqual(len(error_document(machine, ONE)), 1)
+
     def test_twice(self):
         """A visit stands once in a table, with all of its stands."""
         table = table_of(FIRST, BELOW)

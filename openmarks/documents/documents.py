@@ -175,7 +175,7 @@ class Document:
             raise InvalidDocument("the child is not a document")
         at = self._behind(node)
         if index is not None:
-            starts = [*list(self.children(node)), at]
+            starts = list(self.children(node)) + [at]
             check_index(index, len(starts))
             at = starts[index]
         labels = sorted(set(self._labels + other._labels))
