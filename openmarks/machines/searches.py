@@ -4,7 +4,7 @@ from heapq import heappop, heappush
 
 from openmarks.base.labels import closing_tag, opening_tag
 from openmarks.documents.documents import Document
-from openmarks.machines.tables import brings_at, left_by
+from openmarks.machines.tables import brings_at
 
 
 class Search:
@@ -94,15 +94,20 @@ class Search:
 
     def bring(self, child, callers, many, place):
         """Note the stands of parents behind a child that brings one of these."""
+        costs = self.costs
+        cheapest = self.callers[child][place]
         for brings in many:
             cost, last = self.brings[child][place][brings]
             later, put, after = brings
+            # What left_by does, written out here, as most of the work is done in these lines.
+            kept, added = ~later, later << self.walk.bits | put
             for caller in callers:
                 number, marks = caller
-                ahead, stand, k = self.callers[child][place][caller]
-                behind = (after, left_by(self.walk, marks, later) | put)
-                if self.costs[number].get(behind, ahead + cost + 2) > ahead + cost + 1:
-                    self.propose(number, behind, ahead + cost + 1, (stand, k, child, last))
+                ahead, stand, k = cheapest[caller]
+                total = ahead + 1 + cost
+                behind = (after, marks & kept | added)
+                if costs[number].get(behind, total + 1) > total:
+                    self.propose(number, behind, total, (stand, k, child, last))
 
     def nearest_wrong(self):
         """Return the steps to the first wrong opening with the stands that were found, or None.
