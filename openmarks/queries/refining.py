@@ -59,15 +59,15 @@ def classes_of(rows, values, most):
     sizes = [len(states) for states in members]
     before = states_before(rows)
     looked_at = list(range(len(rows)))
-    while looked_at:
-        if len(sizes) > most:
-            return None
+    while looked_at and len(sizes) <= most:
         marked = {}
         for state in split_classes(rows, classes, members, sizes, looked_at):
             for other in before[state]:
                 marked[other] = True
         looked_at = list(marked)
-    return classes
+    # The last split may make too many, too: nothing is looked at behind it if no state
+    # leads to those that it moved.
+    return classes if len(sizes) <= most else None
 
 
 def states_before(rows):
